@@ -1,0 +1,1 @@
+"""Savelines: saved states of processes that exchange messages."""
