@@ -91,6 +91,15 @@ def state_numbers(history):
     return tuple([row.count(0) + 1 for row in history])
 
 
+def all_states(history):
+    """Return the ascending list of all states."""
+    return [
+        (process, number)
+        for process, present in enumerate(state_numbers(history))
+        for number in range(present + 1)
+    ]
+
+
 def place_of(history, state):
     """Return how many events of the process happened before the state."""
     process, number = state
