@@ -124,3 +124,92 @@ def comes_before(history, found, one, other):
         return True
     causal = [z for z in found if is_causal(history, z)]
     return find(history, causal, one, other) is not None
+
+
+NAMES = ("none", "sent", "always", "rounds")
+MAX_STEPS, MAX_EVENTS, MAX_MESSAGES = 60, 60, 24
+
+
+def planned(name, processes, plan):
+    """Return the history of the plan under the rule with this name, and its forced saves."""
+    rows = [[] for _ in range(processes)]
+    numbers, notes, forced = [0] * processes, [], 0
+    for word, process, *rest in plan:
+        row = rows[process]
+        if word == "save":
+            row.append(0)
+            numbers[process] += 1
+        elif word == "send":
+            notes.append(numbers[process])
+            row.append(len(notes))
+        else:
+            note = notes[rest[0] - 1]
+            if wants_save(name, row, numbers[process], note):
+                row.append(0)
+                forced += 1
+            row.append(-rest[0])
+            numbers[process] = max(numbers[process], note)
+    return tuple(tuple(row) for row in rows), forced
+
+
+def wants_save(name, row, number, note):
+    """Return whether the rule wants a save behind this row, before a message with the note."""
+    last = max([i for i, event in enumerate(row) if event == 0], default=-1)
+    since = row[last + 1:]
+    return {
+        "none": False,
+        "sent": any(event > 0 for event in since),
+        "always": len(since) > 0,
+        "rounds": note > number,
+    }[name]
+
+
+def is_number(value, low, high):
+    """Return whether the value is a number from low to high."""
+    return type(value) is int and low <= value <= high
+
+
+def answer(name, processes, limit, steps, step):
+    """Return what a recorder on which the steps stand returns for the step, which has its form.
+
+    An error is returned as the tuple of its name and its fields.
+    """
+    history = planned(name, processes, steps)[0]
+    word, process, *rest = step
+    sent = [(e, p) for p, row in enumerate(history) for e in row if e > 0]
+    if len(steps) >= limit:
+        return ("TooManySteps", limit)
+    if not is_number(process, 0, processes - 1):
+        return ("NoProcess", process)
+    if word == "send" and len(sent) == MAX_MESSAGES:
+        return ("Full",)
+    if word == "receive":
+        by_others = [m for m, sender in sent if sender != process]
+        taken = [-e for row in history for e in row if e < 0]
+        if not any(is_number(rest[0], m, m) for m in by_others if m not in taken):
+            return ("NoMessage", rest[0])
+    longer = planned(name, processes, steps + (step,))[0]
+    before, after = sum(map(len, history)), sum(map(len, longer))
+    if after > MAX_EVENTS:
+        return ("Full",)
+    return len(sent) + 1 if word == "send" else after - before
+
+
+def has_form(step):
+    """Return whether the value has the form of a step."""
+    return type(step) is tuple and (
+        len(step) == 2 and step[0] in ("save", "send") or len(step) == 3 and step[0] == "receive")
+
+
+def steps_text(name, processes, steps):
+    """Return the text of a recorder."""
+    text = f"{processes} {name}:"
+    for word, process, *rest in steps:
+        text += " " + {"save": "v", "send": "s", "receive": "r"}[word] + str(process)
+        text += "".join(f".{message}" for message in rest)
+    return text
+
+
+def row_text(row):
+    """Return the text of a row."""
+    return " ".join("." if e == 0 else f"+{e}" if e > 0 else str(e) for e in row) or "_"

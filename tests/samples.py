@@ -226,3 +226,39 @@ def built(rows, order):
     for process, event in order:
         history = with_event(history, process, event)
     return history
+
+
+def random_plan(seed, most_steps=60, processes=None):
+    """Return a number of processes and a plan, which is short enough under every rule."""
+    rng = random.Random(seed)
+    processes = processes or rng.randint(1, 6)
+    weights = rng.choice([(5, 4, 1), (5, 3, 3), (3, 3, 1), (1, 1, 6), (4, 8, 1)])
+    plan, open_messages, sent, events = [], [], 0, 0
+    for _ in range(rng.randint(0, most_steps)):
+        process = rng.randrange(processes)
+        receivable = [m for m, sender in open_messages if sender != process]
+        word = rng.choices(["receive", "send", "save"], weights)[0]
+        # A receipt counts twice, as if the rule always wanted a save before it.
+        if word == "receive" and receivable and events <= 58:
+            message = rng.choice(receivable)
+            open_messages = [pair for pair in open_messages if pair[0] != message]
+            plan.append(("receive", process, message))
+            events += 2
+        elif word == "send" and sent < 24 and events < 60:
+            sent += 1
+            open_messages.append((sent, process))
+            plan.append(("send", process))
+            events += 1
+        elif word == "save" and events < 60:
+            plan.append(("save", process))
+            events += 1
+    return processes, tuple(plan)
+
+
+def raised(function, *values, **named):
+    """Return the error that the call raises, as its name and its fields; check that it does."""
+    try:
+        found = function(*values, **named)
+    except (ValueError, LookupError) as error:
+        return (type(error).__name__, *vars(error).values())
+    raise AssertionError((values, named, found))

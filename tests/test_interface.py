@@ -1,9 +1,11 @@
-"""The names and arguments of the interface that have landed."""
+"""The names and arguments of the interface."""
 
 import inspect
 import unittest
 
-from savelines import causes, errors, falling, histories, lines, zigzags
+from savelines import (
+    bounds, causes, consoles, errors, falling, histories, lines, recorders, rules, texts, zigzags,
+)
 
 ARGUMENTS = {
     histories: {
@@ -50,6 +52,16 @@ ARGUMENTS = {
         "is_tracked": ["history"],
         "find_untracked": ["history"],
     },
+    rules: {
+        "Rule": ["processes"],
+        "SaveAfterSend": ["processes"],
+        "SaveAlways": ["processes"],
+        "Rounds": ["processes"],
+        "run_plan": ["rule", "plan"],
+    },
+    recorders: {"Recorder": ["processes", "rule='none'", "limit=60"]},
+    texts: {"history_text": ["history"], "line_text": ["line"], "parse_history": ["value"]},
+    consoles: {"Console": ["recorder"]},
     errors: {
         "BadEvent": ["event"],
         "TwoStates": ["process"],
@@ -66,6 +78,44 @@ ARGUMENTS = {
     },
 }
 
+RULE_METHODS = {"save": ["process"], "send": ["process"], "receive": ["process", "note"]}
+METHODS = {
+    rules.Rule: RULE_METHODS,
+    rules.SaveAfterSend: RULE_METHODS,
+    rules.SaveAlways: RULE_METHODS,
+    rules.Rounds: RULE_METHODS,
+    recorders.Recorder: {
+        "save": ["process"],
+        "send": ["process"],
+        "receive": ["process", "message"],
+        "undo": [],
+        "done": ["*steps", "keep=True"],
+        "set_failed": ["value"],
+        "walk": [],
+        "copy": [],
+    },
+    consoles.Console: {"execute": ["line"], "transcript": []},
+}
+PROPERTIES = {
+    rules.Rule: ["forced"],
+    rules.SaveAfterSend: ["forced"],
+    rules.SaveAlways: ["forced"],
+    rules.Rounds: ["forced"],
+    recorders.Recorder: ["history", "steps", "forced", "failed", "line", "useless", "text"],
+}
+VALUES = {
+    rules.Rule: {"NAME": "none"},
+    rules.SaveAfterSend: {"NAME": "sent"},
+    rules.SaveAlways: {"NAME": "always"},
+    rules.Rounds: {"NAME": "rounds"},
+    recorders.Recorder: {"LIMIT": 60},
+    bounds: {"MAX_PROCESSES": 6, "MAX_MESSAGES": 24, "MAX_EVENTS": 60},
+}
+BY_NAME = [
+    (zigzags.line_through, "first"), (recorders.Recorder, "rule"), (recorders.Recorder, "limit"),
+    (recorders.Recorder.done, "keep"), (recorders.Recorder.read, "limit"),
+]
+
 
 class InterfaceTest(unittest.TestCase):
     def test_arguments(self):
@@ -74,11 +124,36 @@ class InterfaceTest(unittest.TestCase):
                 found = inspect.signature(getattr(module, name)).parameters.values()
                 self.assertEqual([str(argument) for argument in found], arguments, name)
 
-    def test_first_is_passed_by_name(self):
-        first = inspect.signature(zigzags.line_through).parameters["first"]
-        self.assertIs(first.kind, inspect.Parameter.KEYWORD_ONLY)
+    def test_what_is_passed_by_name(self):
+        for function, name in BY_NAME:
+            parameter = inspect.signature(function).parameters[name]
+            self.assertIs(parameter.kind, inspect.Parameter.KEYWORD_ONLY, (function, name))
         with self.assertRaises(TypeError):
             zigzags.line_through((), last=True)
+
+    def test_methods_are_defined_in_each_class_itself(self):
+        for kind, methods in METHODS.items():
+            for name, arguments in methods.items():
+                found = list(inspect.signature(vars(kind)[name]).parameters.values())
+                self.assertEqual([str(argument) for argument in found[1:]], arguments, (kind, name))
+
+    def test_class_method(self):
+        read = vars(recorders.Recorder)["read"]
+        self.assertIsInstance(read, classmethod)
+        found = inspect.signature(recorders.Recorder.read).parameters.values()
+        self.assertEqual([str(argument) for argument in found], ["value", "limit=60"])
+
+    def test_properties_are_defined_in_each_class_itself(self):
+        for kind, names in PROPERTIES.items():
+            for name in names:
+                found = vars(kind)[name]
+                self.assertIsInstance(found, property, (kind, name))
+                self.assertEqual(found.fset is not None, name == "failed")
+
+    def test_values(self):
+        for kind, values in VALUES.items():
+            for name, value in values.items():
+                self.assertEqual(repr(vars(kind)[name]), repr(value))
 
     def test_each_name_is_defined_in_its_own_file(self):
         for module, functions in ARGUMENTS.items():

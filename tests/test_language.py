@@ -56,6 +56,39 @@ class LanguageTest(unittest.TestCase):
             if isinstance(node, ast.Name):
                 self.assertFalse(node.id.startswith("_"), (name, node.id))
 
+    def test_no_method_has_the_name_of_an_attribute(self):
+        methods = [
+            child.name for name, node in self.nodes if isinstance(node, ast.ClassDef)
+            for child in node.body if isinstance(child, ast.FunctionDef)]
+        assigned = [
+            node.attr for name, node in self.nodes
+            if isinstance(node, ast.Attribute) and isinstance(node.ctx, ast.Store)]
+        # Only the property that can be assigned is both.
+        self.assertLessEqual(set(methods) & set(assigned), {"failed"})
+        # A set is told to add something, so no object of the package may be.
+        self.assertFalse({"add", "discard"} & set(methods + assigned))
+
+    def test_lists_instead_of_generator_expressions(self):
+        for name, node in self.nodes:
+            self.assertNotIsInstance(node, ast.GeneratorExp, name)
+
+    def test_only_own_errors_are_caught(self):
+        own = [node.name for name, node in self.nodes
+               if name == "errors.py" and isinstance(node, ast.ClassDef)]
+        for name, node in self.nodes:
+            if isinstance(node, ast.ExceptHandler):
+                caught = node.type.elts if isinstance(node.type, ast.Tuple) else [node.type]
+                for kind in caught:
+                    self.assertIn(kind.id, own, (name, node.lineno))
+
+    def test_is_only_beside_none_and_bools(self):
+        for name, node in self.nodes:
+            if isinstance(node, ast.Compare):
+                for sign, other in zip(node.ops, node.comparators):
+                    if isinstance(sign, (ast.Is, ast.IsNot)):
+                        self.assertIsInstance(other, ast.Constant, (name, node.lineno))
+                        self.assertIn(repr(other.value), ("None", "True", "False"))
+
 
 if __name__ == "__main__":
     unittest.main()
