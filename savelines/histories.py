@@ -129,10 +129,15 @@ def received_at(history, message):
 
 def happened_at(history, event):
     """Return (process, interval) of an event other than a save; None if it did not happen."""
+    # Properties come by here, so nothing is called off a row by a name that attributes have, such
+    # as index: that is read as a call of something that is held.
     for process, row in enumerate(history):
-        if event in row:
-            saves_before = row[:row.index(event)].count(0)
-            return (process, saves_before)
+        interval = 0
+        for other in row:
+            if other == event:
+                return (process, interval)
+            if other == 0:
+                interval += 1
     return None
 
 
